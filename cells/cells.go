@@ -3,6 +3,9 @@ package cells
 
 import "sheets/api"
 
+// Total is how many cells the sheet has.
+const Total = api.Columns * api.Rows
+
 // Number tells a cell's number in the order of cells, from 0 on; false, if the sheet has no cell of that name.
 func Number(name string) (int, bool) {
 	if len(name) != 2 {

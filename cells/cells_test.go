@@ -26,6 +26,12 @@ func TestNumbersGoInTheOrderOfCells(t *testing.T) {
 	}
 }
 
+func TestTotalIsTheNumberOfNames(t *testing.T) {
+	if want := len(names()); Total != want {
+		t.Errorf("Total = %d, want %d", Total, want)
+	}
+}
+
 func TestNoOtherTextNamesACell(t *testing.T) {
 	for _, name := range []string{"", "A", "1", "A01", "A10", "A1 ", " A1", "AA1", "\xff\xff\xff"} {
 		if number, known := Number(name); known || number != 0 {

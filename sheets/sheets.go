@@ -2,12 +2,24 @@
 package sheets
 
 import (
+	"math"
+
 	"sheets/api"
+	"sheets/cells"
 	"sheets/grammar"
 )
 
 // Sheet is a sheet.
-type Sheet struct{}
+type Sheet struct {
+	places   int                 // of the store
+	formulas [cells.Total]string // in plain form; the empty text where there is none
+	bounds   [cells.Total]bound
+}
+
+// bound: a cell may have the numbers from lo to hi.
+type bound struct {
+	lo, hi int64
+}
 
 // Plain tells a formula in its plain form (P3).
 func Plain(formula string) (string, api.Errno, int) {
@@ -19,16 +31,80 @@ func Plain(formula string) (string, api.Errno, int) {
 }
 
 // New makes an empty sheet whose store of answers has so many places (P4).
-func New(store int) (*Sheet, api.Errno) { return nil, api.OK }
+func New(store int) (*Sheet, api.Errno) {
+	if store < 0 || store > api.MaxStore {
+		return nil, api.ErrRange
+	}
+	s := &Sheet{places: store}
+	for cell := range s.bounds {
+		// These bounds refuse no number, so that a cell of which no Bound spoke needs no mark of its own.
+		s.bounds[cell] = bound{lo: math.MinInt64, hi: math.MaxInt64}
+	}
+	return s, api.OK
+}
 
 // Bound says which numbers a cell may have (P5).
-func (s *Sheet) Bound(cell string, lo int64, hi int64) api.Errno { return api.OK }
+func (s *Sheet) Bound(cell string, lo int64, hi int64) api.Errno {
+	number, known := cells.Number(cell)
+	if !known {
+		return api.ErrCell
+	}
+	if lo > hi {
+		return api.ErrRange
+	}
+	s.bounds[number] = bound{lo: lo, hi: hi}
+	return api.OK
+}
 
 // Edit gives cells new formulas, all of a batch or none (P5).
-func (s *Sheet) Edit(batch []api.Edit) (api.Errno, int, int) { return api.OK, 0, 0 }
+func (s *Sheet) Edit(batch []api.Edit) (api.Errno, int, int) {
+	if len(batch) > api.MaxBatch {
+		return api.ErrLong, 0, 0
+	}
+	// The edits are done on a copy, so that one that may not be leaves the sheet as it was.
+	edited := s.formulas
+	for number, edit := range batch {
+		cell, formula, fault, place := s.check(edit)
+		if fault != api.OK {
+			return fault, number, place
+		}
+		edited[cell] = formula
+	}
+	s.formulas = edited
+	return api.OK, 0, 0
+}
+
+// check tells an edit's cell and the plain form of its formula; or, if it may not be, its fault and the place of that.
+func (s *Sheet) check(edit api.Edit) (int, string, api.Errno, int) {
+	cell, known := cells.Number(edit.Cell)
+	if !known {
+		return 0, "", api.ErrCell, 0
+	}
+	if edit.Text == "" {
+		return cell, "", api.OK, 0
+	}
+	list, fault, place := grammar.Read(edit.Text)
+	if fault != api.OK {
+		return 0, "", fault, place
+	}
+	if number, alone := grammar.Number(list); alone && s.bounds[cell].refuses(number) {
+		return 0, "", api.ErrRule, 0
+	}
+	return cell, grammar.Plain(list), api.OK, 0
+}
+
+func (b bound) refuses(number int64) bool {
+	return number < b.lo || number > b.hi
+}
 
 // Formula tells a cell's formula in its plain form (P5).
-func (s *Sheet) Formula(cell string) (string, api.Errno) { return "", api.OK }
+func (s *Sheet) Formula(cell string) (string, api.Errno) {
+	number, known := cells.Number(cell)
+	if !known {
+		return "", api.ErrCell
+	}
+	return s.formulas[number], api.OK
+}
 
 // Work works out all that must be, in an order, by a way (P6, P7).
 func (s *Sheet) Work(order int, way int) (api.Report, api.Errno) { return api.Report{}, api.OK }
