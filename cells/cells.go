@@ -18,20 +18,32 @@ func Number(name string) (int, bool) {
 	return row*api.Columns + column, true
 }
 
-// Area tells how many cells stand from an upper left to a lower right corner; 0, if the two are no such corners.
-func Area(first, last string) int {
+// Name tells the name of the cell of that number.
+func Name(number int) string {
+	return string([]byte{'A' + byte(number%api.Columns), '1' + byte(number/api.Columns)})
+}
+
+// Range tells the numbers of the cells from an upper left to a lower right corner, in the order of cells; none, if the
+// two are no such corners.
+func Range(first, last string) []int {
 	from, known := Number(first)
 	if !known {
-		return 0
+		return nil
 	}
 	to, known := Number(last)
 	if !known {
-		return 0
+		return nil
 	}
-	columns := to%api.Columns - from%api.Columns + 1
-	rows := to/api.Columns - from/api.Columns + 1
-	if columns < 1 || rows < 1 {
-		return 0
+	var list []int
+	for row := from / api.Columns; row <= to/api.Columns; row++ {
+		for column := from % api.Columns; column <= to%api.Columns; column++ {
+			list = append(list, row*api.Columns+column)
+		}
 	}
-	return columns * rows
+	return list
+}
+
+// Area tells how many cells stand from an upper left to a lower right corner; 0, if the two are no such corners.
+func Area(first, last string) int {
+	return len(Range(first, last))
 }

@@ -1,6 +1,7 @@
 package cells
 
 import (
+	"slices"
 	"strings"
 	"testing"
 )
@@ -16,6 +17,14 @@ func names() []string {
 		}
 	}
 	return all
+}
+
+func TestNamesGoInTheOrderOfCells(t *testing.T) {
+	for number, want := range names() {
+		if name := Name(number); name != want {
+			t.Errorf("Name(%d) = %s, want %s", number, name, want)
+		}
+	}
 }
 
 func TestNumbersGoInTheOrderOfCells(t *testing.T) {
@@ -45,6 +54,30 @@ func TestNoOtherTextNamesACell(t *testing.T) {
 			if _, known := Number(name); known != want {
 				t.Errorf("Number(%q): %v, want %v", name, known, want)
 			}
+		}
+	}
+}
+
+func TestRangeHasTheCellsBetweenInTheirOrder(t *testing.T) {
+	for _, first := range names() {
+		for _, last := range names() {
+			var want []int
+			for number, name := range names() {
+				if first[0] <= name[0] && name[0] <= last[0] && first[1] <= name[1] && name[1] <= last[1] {
+					want = append(want, number)
+				}
+			}
+			if got := Range(first, last); !slices.Equal(got, want) {
+				t.Errorf("Range(%s, %s) = %v, want %v", first, last, got, want)
+			}
+		}
+	}
+}
+
+func TestNoRangeWithoutBothCorners(t *testing.T) {
+	for _, corners := range [][2]string{{"A1", "A9"}, {"A0", "A1"}, {"A1", "G1"}, {"G1", "G1"}, {"", ""}, {"A1", "A10"}} {
+		if got := Range(corners[0], corners[1]); got != nil {
+			t.Errorf("Range(%s, %s) = %v, want none", corners[0], corners[1], got)
 		}
 	}
 }

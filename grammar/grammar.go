@@ -11,6 +11,11 @@ func Read(text string) ([]tokens.Token, api.Errno, int) {
 	if len(text) > api.MaxText {
 		return nil, api.ErrLong, 0
 	}
+	return ReadAll(text)
+}
+
+// ReadAll is Read of a text that may have any length: a plain form may be longer than the text that it comes of.
+func ReadAll(text string) ([]tokens.Token, api.Errno, int) {
 	list, place, ok := tokens.Scan(text)
 	if !ok {
 		return nil, api.ErrToken, place

@@ -2,6 +2,7 @@ package grammar
 
 import (
 	"slices"
+	"strings"
 	"testing"
 
 	"sheets/api"
@@ -28,6 +29,18 @@ func TestReadTellsNoTokensBesideAFault(t *testing.T) {
 	} {
 		if list, fault, _ := Read(text); list != nil || fault != want {
 			t.Errorf("Read(%q) = %v, %d, want none, %d", text, list, fault, want)
+		}
+	}
+}
+
+func TestReadAllTakesTextsOfAnyLength(t *testing.T) {
+	text := strings.Repeat("1 + ", 100) + "A1"
+	if list, fault, place := ReadAll(text); len(list) != 201 || fault != api.OK || place != 0 {
+		t.Errorf("ReadAll: %d tokens, %d, %d, want 201, OK, 0", len(list), fault, place)
+	}
+	for text, want := range map[string]api.Errno{text + "?": api.ErrToken, text + " B1": api.ErrSyntax, text + " + G1": api.ErrCell} {
+		if list, fault, place := ReadAll(text); list != nil || fault != want || place < 400 {
+			t.Errorf("ReadAll: %v, %d, %d, want none, %d", list, fault, place, want)
 		}
 	}
 }

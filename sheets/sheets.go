@@ -3,17 +3,20 @@ package sheets
 
 import (
 	"math"
+	"strings"
 
 	"sheets/api"
 	"sheets/cells"
 	"sheets/grammar"
+	"sheets/values"
+	"sheets/work"
 )
 
 // Sheet is a sheet.
 type Sheet struct {
-	places   int                 // of the store
 	formulas [cells.Total]string // in plain form; the empty text where there is none
 	bounds   [cells.Total]bound
+	kept     work.Kept // of the last Work
 }
 
 // bound: a cell may have the numbers from lo to hi.
@@ -35,7 +38,7 @@ func New(store int) (*Sheet, api.Errno) {
 	if store < 0 || store > api.MaxStore {
 		return nil, api.ErrRange
 	}
-	s := &Sheet{places: store}
+	s := &Sheet{kept: work.NewKept(store)}
 	for cell := range s.bounds {
 		// These bounds refuse no number, so that a cell of which no Bound spoke needs no mark of its own.
 		s.bounds[cell] = bound{lo: math.MinInt64, hi: math.MaxInt64}
@@ -107,10 +110,29 @@ func (s *Sheet) Formula(cell string) (string, api.Errno) {
 }
 
 // Work works out all that must be, in an order, by a way (P6, P7).
-func (s *Sheet) Work(order int, way int) (api.Report, api.Errno) { return api.Report{}, api.OK }
+func (s *Sheet) Work(order int, way int) (api.Report, api.Errno) {
+	if order < api.Chain || order > api.Suspend || way < api.Dirty || way > api.Recall {
+		return api.Report{}, api.ErrWay
+	}
+	return api.Report{Begun: s.kept.Work(s.formulas, order, way)}, api.OK
+}
 
 // Value tells what a cell was worth when the sheet was last worked out (P6).
-func (s *Sheet) Value(cell string) (api.Value, api.Errno) { return api.Value{}, api.OK }
+func (s *Sheet) Value(cell string) (api.Value, api.Errno) {
+	number, known := cells.Number(cell)
+	if !known {
+		return api.Value{}, api.ErrCell
+	}
+	return s.kept.Value(number), api.OK
+}
 
 // Show tells all cells that are worth something (P8).
-func (s *Sheet) Show() string { return "" }
+func (s *Sheet) Show() string {
+	var text strings.Builder
+	for cell := range cells.Total {
+		if value := s.kept.Value(cell); value.Kind != api.None {
+			text.WriteString(cells.Name(cell) + "=" + values.Show(value) + "\n")
+		}
+	}
+	return text.String()
+}
