@@ -51,8 +51,8 @@ func TestNoOtherTextNamesACell(t *testing.T) {
 		for second := range 256 {
 			name := string([]byte{byte(first), byte(second)})
 			want := strings.IndexByte(columns, name[0]) >= 0 && strings.IndexByte(rows, name[1]) >= 0
-			if _, known := Number(name); known != want {
-				t.Errorf("Number(%q): %v, want %v", name, known, want)
+			if number, known := Number(name); known != want || !known && number != 0 {
+				t.Errorf("Number(%q) = %d, %v, want %v", name, number, known, want)
 			}
 		}
 	}

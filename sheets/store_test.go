@@ -187,6 +187,15 @@ func TestWhatIsLeftIsNotStored(t *testing.T) {
 	}
 }
 
+// TestWhatIsLeftMayBeRecalled: B1 is begun and left ahead of A1's end, which tells what it is worth.
+func TestWhatIsLeftMayBeRecalled(t *testing.T) {
+	s := given(t, 3, "A1=C1+D1", "B1=C1+D1", "C1=1", "D1=2")
+	if begun := work(t, s, api.Restart, api.Recall); !slices.Equal(begun, []string{"A1", "B1", "C1", "D1", "A1"}) {
+		t.Errorf("P7: %v are begun, want A1, B1, C1, D1, and A1 anew", begun)
+	}
+	checkLines(t, s, "A1=3 B1=3 C1=1 D1=2")
+}
+
 func TestErrorsAreStored(t *testing.T) {
 	for order := range 3 {
 		s := given(t, 9, "A1=0", "B1=1/A1", "C1=bad(B1)", `D1=at("x"&"y")`)

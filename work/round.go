@@ -57,7 +57,6 @@ func newRound(formulas [cells.Total]string, last [cells.Total]answers.Answer, st
 // turn takes a cell as far as it goes. It tells true when the cell is settled; else which cell it waits for.
 func (r *round) turn(cell int) (int, bool) {
 	t := &r.tasks[cell]
-	t.waits = nobody
 	switch t.state {
 	case fresh:
 		t.known = append(t.known, r.known(cell)...)
